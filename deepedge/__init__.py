@@ -1,0 +1,1 @@
+"""Deepedge: what a stack machine with bounded reach can still build."""

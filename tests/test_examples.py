@@ -1,0 +1,172 @@
+"""The examples of the document, as Python sessions."""
+
+import unittest
+
+from deepedge import errors
+
+SESSIONS = r"""
+>>> from deepedge.values import make_stack
+>>> make_stack("a", "b", "a")
+('a', 'b', 'a')
+
+>>> from deepedge.values import make_stack
+>>> make_stack("a", "B", 3)
+raises InvalidStack(1)
+
+>>> from deepedge.instructions import cells_needed, height_change, shuffle
+>>> both = shuffle(("dup", 2), [("swap", 1), ("pop",)], ())
+>>> [both, cells_needed(both[1]), height_change(both[2])]
+[(('dup', 2), ('swap', 1), ('pop',)), 2, -1]
+
+>>> from deepedge.instructions import shuffle
+>>> shuffle(("pop",), ("dup", 0))
+raises InvalidShuffle(1)
+
+>>> from deepedge.machine import lowest_height, run, trace, untouched
+>>> deeds = (("pop",), ("dup", 2), ("swap", 1))
+>>> [run(("a", "b", "c"), deeds, reach=2), lowest_height(("a", "b", "c"), deeds), untouched(("a", "b", "c"), deeds, ())]
+[('a', 'a', 'b'), 2, 0]
+
+>>> from deepedge.machine import trace
+>>> list(trace(("a", "b"), ("pop",), ("dup", 1), reach=2))
+[('a', 'b'), ('a',), ('a', 'a')]
+
+>>> from deepedge.machine import run
+>>> run(("a", "b", "c"), ("pop",), ("dup", 3), reach=2)
+raises Fault(1, ('dup', 3))
+
+>>> from deepedge.machine import BoundedMachine, Machine
+>>> machine = Machine(("a", "b", "c"), reach=2)
+>>> made = [machine.do(("pop",), ("dup", 1)), machine.do(("swap", 2)), machine.undo(), machine.steps_done, str(machine)]
+>>> [made, Machine.read("2: a b b") == machine, BoundedMachine.read("2: a b b") == machine]
+[[3, 3, 3, 2, '2: a b b'], True, False]
+
+>>> from deepedge.machine import BoundedMachine
+>>> machine = BoundedMachine(("a", "b"), reach=2, most=3)
+>>> machine.do(("dup", 1), ("dup", 2), ("pop",))
+raises TooHigh(3)
+
+>>> from deepedge.machine import Machine
+>>> Machine.read("3: a  b")
+raises ParseError(0, 2)
+
+>>> from deepedge.cards import card_of
+>>> [card_of(), card_of(("swap", 1)), card_of(("pop",), ("dup", 2))]
+[(0, ()), (2, (2, 1)), (3, (1, 2, 1))]
+
+>>> from deepedge.cards import is_card
+>>> [is_card((2, (2, 1))), is_card((1, (2,))), is_card((0, (0,)))]
+[True, False, False]
+
+>>> from deepedge.cards import apply_card
+>>> apply_card(("a", "b", "c"), (2, (2, 1, 2)))
+('a', 'c', 'b', 'c')
+
+>>> from deepedge.cards import apply_card
+>>> apply_card(("a",), (2, (2, 1)))
+raises TooLow(2)
+
+>>> from deepedge.cards import compose
+>>> compose((1, ()), (2, (1, 2, 1)))
+(3, (1, 2, 1))
+
+>>> from deepedge.effects import same_effect
+>>> same_effect((("swap", 1), ("swap", 1)), (("dup", 1), ("pop",)))
+False
+
+>>> from deepedge.effects import separating_stack
+>>> separating_stack((("swap", 1),), (("dup", 2), ("swap", 2), ("pop",)))
+('a', 'b')
+
+>>> from deepedge.effects import separating_stack
+>>> separating_stack((("dup", 1), ("pop",)), ())
+()
+
+>>> from deepedge.cards import card_of
+>>> from deepedge.realize import realize
+>>> card_of(realize((3, (2, 2))))
+(3, (2, 2))
+
+>>> from deepedge.realize import reach_needed
+>>> [reach_needed(), reach_needed(("dup", 5), ("pop",), ("swap", 3))]
+[2, 5]
+
+>>> from deepedge.realize import tidied
+>>> tidied(("swap", 2), ("dup", 1), ("swap", 1), ("pop",), ("swap", 2), ("pop",))
+(('pop',),)
+
+>>> from deepedge.floors import depth_of, floors, profile
+>>> target = ("p", "a", "b", "b", "c")
+>>> [depth_of(target, reach=2), floors(("p", "a", "b", "c"), target, reach=2), profile(target, reach=2)]
+[1, [1], (1, ('p',), ('a', 'b', 'c'))]
+
+>>> from deepedge.floors import floors
+>>> stack = ("a", "b", "c", "d")
+>>> [floors(stack, ("a", "b", "c", "d"), reach=2), floors(stack, ("a", "b", "b", "c"), reach=2), floors(stack, ("a", "a", "b", "c"), reach=2)]
+[[1], [0, 1], []]
+
+>>> from deepedge.judge import decide, reaches
+>>> [reaches(("a", "b", "c", "d"), ("b", "c", "c"), reach=2), decide(("a", "b", "c", "d"), ("b", "c", "d"), reach=2)]
+[True, ('blocked', (0, (), 'edge', ('b', 'c', 'd')))]
+
+>>> from deepedge.judge import decide
+>>> deep = ("p", "a", "b", "c")
+>>> [decide(deep, deep + ("a",), reach=2), decide(deep, deep + ("a",), reach=3), decide(deep, ("q",), reach=2)]
+[('blocked', (2, ('a', 'b', 'c'), 'missing', 'a')), ('reached', 0), ('blocked', (0, (), 'missing', 'q'))]
+
+>>> from deepedge.blocked import check_blocked
+>>> check_blocked(("a", "b", "c", "d"), ("b", "c", "d"), (0, (), "edge", ("b", "c", "d")), reach=2)
+True
+
+>>> from deepedge.blocked import check_blocked
+>>> check_blocked(("a", "b", "c", "d"), ("b", "c", "c"), (0, (), "missing", "b"), reach=2)
+raises InvalidCertificate('missing')
+
+>>> from deepedge.building import build
+>>> from deepedge.machine import run
+>>> start, target = ("a", "b", "c", "d"), ("a", "d", "d")
+>>> run(start, build(start, target, reach=2), reach=2)
+('a', 'd', 'd')
+
+>>> from deepedge.building import build
+>>> build(("a", "b"), ("c",))
+raises Blocked(certificate=(0, (), 'missing', 'c'))
+
+>>> from deepedge.building import build
+>>> build(("a", "b"), ("b",), floor=1)
+raises NoFloor(floor=1)
+
+>>> from deepedge.building import build, building_steps
+>>> start, target = ("a", "b", "c"), ("c", "a")
+>>> tuple(building_steps(start, target)) == build(start, target)
+True
+"""
+
+
+class ExampleTest(unittest.TestCase):
+    def test_examples(self):
+        sessions = SESSIONS.strip().split("\n\n")
+        self.assertEqual(len(sessions), 31)
+        for session in sessions:
+            with self.subTest(session):
+                self.check(session)
+
+    def check(self, session):
+        """Execute the lines of one session and compare the last call with the line behind it."""
+        lines = session.split("\n")
+        known = {}
+        *before, call = [line.removeprefix(">>> ") for line in lines[:-1]]
+        for line in before:
+            exec(line, known)
+        expected = lines[-1]
+        if not expected.startswith("raises "):
+            self.assertEqual(repr(eval(call, known)), expected)
+            return
+        error = eval(expected.removeprefix("raises "), vars(errors).copy())
+        with self.assertRaises(error.__class__) as caught:
+            eval(call, known)
+        self.assertEqual(vars(caught.exception), vars(error))
+
+
+if __name__ == "__main__":
+    unittest.main()
