@@ -7,6 +7,7 @@ def way(stack, target, floor):
     """Return the list of instructions that turn the stack into the target above a floor of the two."""
     needed = sorted(set(target[floor:]))
     deeds, cells = descent(stack, floor, floor + len(needed), needed)
+    # The way up begins with the value at the edge.
     return deeds + ascent(cells[floor:], target[floor:])
 
 
