@@ -123,3 +123,36 @@ def random_pairs(seed, count, most=40):
 def random_shuffle(chance, length, most):
     """A shuffle with numbers up to `most`."""
     return tuple(chance.choice(instructions(most)) for _ in range(length))
+
+
+def raised_by(function, *arguments, **settings):
+    """The error that the call raises, or None."""
+    try:
+        function(*arguments, **settings)
+    except Exception as error:
+        return error
+    return None
+
+
+def search_layers(stack, reach, most):
+    """The layers 0 to `most` of the stack, by the words of [30]."""
+    layers, seen = [[stack]], {stack}
+    for _ in range(most):
+        made = {after(cells, deed) for cells in layers[-1] for deed in instructions(reach)} - {None} - seen
+        seen |= made
+        layers.append(sorted(made))
+    return tuple(tuple(layer) for layer in layers)
+
+
+def listed_targets(stack, height, reach):
+    """The targets of the stack at the height, by [7], of all words."""
+    words = itertools.product(sorted(set(stack)), repeat=height)
+    return [word for word in words if reached_by_fact(stack, word, reach)]
+
+
+def random_stacks(seed, count, values, most):
+    """So many stacks of at most so many of the values, some of them with few different ones."""
+    chance = random.Random(seed)
+    for _ in range(count):
+        names = chance.sample(values, chance.randrange(1, len(values) + 1))
+        yield tuple(chance.choice(names) for _ in range(chance.randrange(most + 1)))

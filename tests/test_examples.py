@@ -140,13 +140,70 @@ raises NoFloor(floor=1)
 >>> start, target = ("a", "b", "c"), ("c", "a")
 >>> tuple(building_steps(start, target)) == build(start, target)
 True
+
+>>> from deepedge.machine import run
+>>> from deepedge.touched import descend
+>>> sorted(run(("a", "b", "c", "d"), descend(("a", "b", "c", "d"), 2, "a", "d", reach=2), reach=2))
+['a', 'd']
+
+>>> from deepedge.touched import descend
+>>> descend(("a", "b"), 1, "c")
+raises InvalidWanted(value='c')
+
+>>> from deepedge.touched import descend
+>>> descend(("a", "b", "c"), 3, "a", "b", "c", reach=2)
+raises TooMany(limit=2)
+
+>>> from deepedge.touched import never_higher
+>>> never_higher(("a", "b"), ("dup", 1), ("pop",), ("pop",))
+3
+
+>>> from deepedge.layers import shortest
+>>> shortest(("a", "b"), ("b", "a"), reach=2)
+((('swap', 1),), ((('a', 'b'),),))
+
+>>> from deepedge.layers import shortest
+>>> shortest(("a", "b"), ("b", "a", "b"), limit=1)
+raises TooMany(1)
+
+>>> from deepedge.layercheck import check_layers
+>>> check_layers(("a",), ("a", "a"), ((("a",),),))
+1
+
+>>> from deepedge.layercheck import check_layers
+>>> check_layers(("a",), ("a",), ((("a",),),))
+raises InvalidCertificate('target')
+
+>>> from deepedge.reaches import least_reach
+>>> [least_reach(("a", "b", "c", "d"), ("b", "c", "d"))[0], least_reach(("a", "b"), ("b",)), least_reach(("a",), ("b",))]
+[3, (2, None), None]
+
+>>> from deepedge.reaches import helpful_pushes
+>>> helpful_pushes(("a", "b", "c"), ("a", "b", "c", "a"), reach=2)
+['a']
+
+>>> from deepedge.renaming import renamed
+>>> renamed(("a", "b", "a"), a="x", b="a")
+('x', 'a', 'x')
+
+>>> from deepedge.renaming import renamed
+>>> renamed(("a", "b"), b=0)
+raises InvalidStack(1)
+
+>>> from deepedge.renaming import raised
+>>> raised(("p",), ("a", "b"), ())
+[('p', 'a', 'b'), ('p',)]
+
+>>> from deepedge.words import covering, surjections
+>>> [surjections(3, 2), surjections(0, 0), surjections(1, 2), covering(3, 2, 1)]
+[6, 1, 0, 7]
 """
 
 
 class ExampleTest(unittest.TestCase):
     def test_examples(self):
         sessions = SESSIONS.strip().split("\n\n")
-        self.assertEqual(len(sessions), 31)
+        self.assertEqual(len(sessions), 45)
         for session in sessions:
             with self.subTest(session):
                 self.check(session)

@@ -34,6 +34,14 @@ FUNCTIONS = {
         "build": "(stack, target, *, reach=16, floor=None)",
         "building_steps": "(stack, target, *, reach=16, floor=None)",
     },
+    "touched": {"descend": "(stack, height, *keep, reach=16)", "never_higher": "(stack, *parts)"},
+    "layers": {"shortest": "(stack, target, *, reach=16, limit=500)"},
+    "layercheck": {"check_layers": "(stack, target, value, *, reach=16)"},
+    "reaches": {
+        "least_reach": "(stack, target)", "helpful_pushes": "(stack, target, *, reach=16)",
+    },
+    "renaming": {"renamed": "(stack, **names)", "raised": "(bottom, *stacks)"},
+    "words": {"surjections": "(length, letters)", "covering": "(length, letters, needed)"},
 }
 METHODS = {
     "Machine": {
