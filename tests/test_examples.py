@@ -197,13 +197,50 @@ raises InvalidStack(1)
 >>> from deepedge.words import covering, surjections
 >>> [surjections(3, 2), surjections(0, 0), surjections(1, 2), covering(3, 2, 1)]
 [6, 1, 0, 7]
+
+>>> from deepedge.targets import count_targets
+>>> [count_targets(("a", "b", "c"), 4, reach=2), count_targets(("a", "b", "c"), 4, reach=2, beginning=("a",))]
+[63, 21]
+
+>>> from deepedge.targets import target_at, target_index
+>>> [target_index(("a", "b", "c"), ("b", "a", "a"), reach=2), target_at(("a", "b", "c"), 3, 9, reach=2)]
+[9, ('b', 'a', 'a')]
+
+>>> from deepedge.targets import target_at
+>>> target_at(("a", "b", "c"), 3, 27, reach=2)
+raises NoMember(27)
+
+>>> from deepedge.targets import targets
+>>> list(targets(("b", "a"), 1))
+[('a',), ('b',)]
+
+>>> from deepedge.sources import count_sources
+>>> [count_sources(("a", "b"), 2, ("a", "b"), reach=2), count_sources(("a", "b", "c"), 3, ("a", "b", "c"), reach=2)]
+[2, 6]
+
+>>> from deepedge.losses import first_lost, lost_count
+>>> [lost_count(("a", "b"), 2, reach=2), first_lost(("a", "b"), 2, reach=2), first_lost(("a", "b"), 0, reach=2)]
+[3, ('a', 'b'), None]
+
+>>> from deepedge.losses import pop_loses
+>>> [pop_loses(("a", "b"), reach=2), pop_loses(("a", "a"), reach=2)]
+[(1, ('b',)), None]
+
+>>> from deepedge.layouts import layout_for
+>>> layout_for(("a", "b"), ("a", "c"), wanted=("b",), reach=2)
+('barred', (('missing', 1, 'b'), ('missing', 1, 'b')))
+
+>>> from deepedge.layoutcheck import check_barred
+>>> rows = (("missing", 1, "b"), ("missing", 0, "b"))
+>>> check_barred((("a", "b"), ("a", "c")), ("b",), rows, reach=2)
+raises InvalidCertificate('missing')
 """
 
 
 class ExampleTest(unittest.TestCase):
     def test_examples(self):
         sessions = SESSIONS.strip().split("\n\n")
-        self.assertEqual(len(sessions), 45)
+        self.assertEqual(len(sessions), 54)
         for session in sessions:
             with self.subTest(session):
                 self.check(session)

@@ -42,6 +42,17 @@ FUNCTIONS = {
     },
     "renaming": {"renamed": "(stack, **names)", "raised": "(bottom, *stacks)"},
     "words": {"surjections": "(length, letters)", "covering": "(length, letters, needed)"},
+    "targets": {
+        "count_targets": "(stack, height, *, reach=16, beginning=())", "target_index": "(stack, target, *, reach=16)",
+        "target_at": "(stack, height, index, *, reach=16)", "targets": "(stack, height, *, reach=16)",
+    },
+    "sources": {"count_sources": "(target, height, values, *, reach=16)"},
+    "losses": {
+        "lost_count": "(stack, height, *, reach=16)", "first_lost": "(stack, height, *, reach=16)",
+        "pop_loses": "(stack, *, reach=16)",
+    },
+    "layouts": {"layout_for": "(*stacks, wanted=(), reach=16)"},
+    "layoutcheck": {"check_barred": "(stacks, wanted, value, *, reach=16)"},
 }
 METHODS = {
     "Machine": {
@@ -55,7 +66,33 @@ METHODS = {
         "__repr__": "(self)",
     },
 }
-GENERATORS = {("machine", "trace"), ("building", "building_steps")}
+GENERATORS = {("machine", "trace"), ("building", "building_steps"), ("targets", "targets")}
+
+
+STACK, TARGET = ("a", "b", "c", "d"), ("a", "c", "b", "d")
+ROWS = (("edge", 0, ("b", "c", "d")),)
+# Arguments by the names of the interface; those that can be passed by position come first, in order.
+NAMED = [
+    ("touched", "descend", {"stack": STACK, "height": 2}, {"reach": 2}),
+    ("touched", "never_higher", {"stack": STACK}, {}),
+    ("layers", "shortest", {"stack": STACK, "target": TARGET}, {"limit": 300, "reach": 3}),
+    ("layercheck", "check_layers", {"stack": STACK, "target": TARGET, "value": ((STACK,),)}, {"reach": 2}),
+    ("reaches", "least_reach", {"stack": STACK, "target": TARGET[1:]}, {}),
+    ("reaches", "helpful_pushes", {"stack": STACK, "target": TARGET}, {"reach": 3}),
+    ("renaming", "renamed", {"stack": STACK}, {"b": "x", "a": "b"}),
+    ("renaming", "raised", {"bottom": STACK}, {}),
+    ("words", "surjections", {"length": 5, "letters": 3}, {}),
+    ("words", "covering", {"length": 5, "letters": 3, "needed": 2}, {}),
+    ("targets", "count_targets", {"stack": STACK, "height": 5}, {"beginning": ("a", "b"), "reach": 2}),
+    ("targets", "target_index", {"stack": STACK, "target": ("a", "d", "b", "c")}, {"reach": 2}),
+    ("targets", "target_at", {"stack": STACK, "height": 5, "index": 70}, {"reach": 2}),
+    ("targets", "targets", {"stack": STACK, "height": 3}, {"reach": 2}),
+    ("sources", "count_sources", {"target": TARGET, "height": 5, "values": ("d", "c", "b", "a")}, {"reach": 2}),
+    ("losses", "lost_count", {"stack": STACK, "height": 4}, {"reach": 2}),
+    ("losses", "first_lost", {"stack": STACK, "height": 4}, {"reach": 2}),
+    ("losses", "pop_loses", {"stack": STACK}, {"reach": 2}),
+    ("layoutcheck", "check_barred", {"stacks": (STACK, TARGET[1:]), "wanted": ("d", "b", "c"), "value": ROWS}, {"reach": 2}),
+]
 
 
 def module(name):
@@ -70,6 +107,17 @@ class InterfaceTest(unittest.TestCase):
                 self.assertEqual(str(inspect.signature(function)), signature, name)
                 self.assertEqual(function.__module__, "deepedge." + file)
                 self.assertEqual(inspect.isgeneratorfunction(function), (file, name) in GENERATORS)
+
+    def test_arguments_by_name(self):
+        for file, name, placed, named in NAMED:
+            function = getattr(module(file), name)
+            told = [function(*placed.values(), **named)]
+            every = {**placed, **named}
+            for order in (list(every), list(every)[::-1], sorted(every)):
+                told.append(function(**{key: every[key] for key in order}))
+            if inspect.isgeneratorfunction(function):
+                told = [list(steps) for steps in told]
+            self.assertEqual(told[1:], told[:1] * 3, name)
 
     def test_methods(self):
         for kind, methods in METHODS.items():

@@ -155,7 +155,9 @@ class CheckLayersTest(unittest.TestCase):
         self.assertEqual(self.problem(stack, ("z",), wide, 3), 3)
         self.assertEqual(self.problem(stack, ("z",), wide, 2), "step")
         self.assertEqual(self.problem(stack, ("z",), narrow, 3), "open")
-        self.assertEqual(check_layers(stack, ("z",), search_layers(stack, 16, 1)), 2)
+        for reach, problem in [(15, "open"), (16, None), (17, "step")]:
+            error = raised_by(check_layers, letters(18), ("z",), search_layers(letters(18), reach, 1))
+            self.assertEqual(error and error.reason, problem)
 
     def test_changed_certificates(self):
         chance = random.Random(72)

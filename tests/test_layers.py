@@ -150,6 +150,12 @@ class ShortestTest(unittest.TestCase):
         error = raised_by(shortest, stack, (), reach=40)
         self.assertEqual((type(error), error.limit), (TooMany, 500))
 
+    def test_the_default_reach(self):
+        stack = letters(18)
+        self.assertEqual(shortest(stack, stack + stack[2:3])[0], (("dup", 16),))
+        self.assertEqual(shortest(stack, stack + stack[1:2], reach=17)[0], (("dup", 17),))
+        self.assertIs(type(raised_by(shortest, stack, stack + stack[1:2])), Blocked)
+
     def test_same_again(self):
         first = shortest(("a", "b", "c"), ("c", "a", "b"), reach=2)
         self.assertEqual(shortest(("a", "b", "c"), ("c", "a", "b"), reach=2), first)

@@ -62,6 +62,8 @@ class LeastReachTest(unittest.TestCase):
         self.assertEqual(self.check(stack, stack[1:]), 40)
         self.assertEqual(self.check(stack, stack), 2)
         self.assertIsNone(self.check(stack, stack + ("x",)))
+        # A reach of 41 would be enough, but there is none.
+        self.assertIsNone(self.check(("x",) + letters(41), letters(41)))
 
 
 class HelpfulPushesTest(unittest.TestCase):

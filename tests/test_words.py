@@ -46,6 +46,9 @@ class WordsTest(unittest.TestCase):
             self.assertEqual(surjections(count, count + 1), 0)
             self.assertEqual(covering(count, 40, count), math.factorial(count))
 
+    def test_what_no_word_can_have(self):
+        self.assertEqual([surjections(-1, 0), surjections(-1, 2), covering(-1, 2, 0), covering(3, 2, 3)], [0, 0, 0, 0])
+
     def test_kinds(self):
         for found in (surjections(0, 0), surjections(60, 40), covering(60, 40, 40), covering(0, 0, 0), surjections(1, 2)):
             self.assertIs(type(found), int)
