@@ -24,17 +24,27 @@ def layout_for(*stacks, wanted=(), reach=16):
 
 def check_layout_arguments(stacks, wanted, reach):
     """Raise the first error of a call of `layout_for` with these arguments, if there is one."""
+    check_stacks(stacks)
+    check_wanted(wanted)
+    check_reach(reach)
+
+
+def check_stacks(stacks):
+    """Raise `InvalidStack` if the entries of the tuple are not one to six stacks."""
     for index, stack in enumerate(stacks):
         if index == MOST_STACKS or not is_stack(stack):
             raise InvalidStack(index)
     if stacks == ():
         raise InvalidStack(0)
+
+
+def check_wanted(wanted):
+    """Raise `InvalidWanted` if the thing, any value, is not a tuple of at most twelve values."""
     if not isinstance(wanted, tuple):
         raise InvalidWanted(wanted)
     for index, value in enumerate(wanted):
         if index == MOST_WANTED or not is_value(value):
             raise InvalidWanted(value)
-    check_reach(reach)
 
 
 def common_ground(stacks):

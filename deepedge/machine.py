@@ -1,8 +1,10 @@
 """Running instructions, and machines that remember what they did."""
 
 from deepedge.errors import Fault, NoName, NothingToUndo, ParseError, TooHigh
+from deepedge.formatting import stack_text
 from deepedge.instructions import cells_needed, height_change, is_instruction, listed, perform
-from deepedge.values import check_reach, check_stack, is_integer, wrong_cell, written_reach
+from deepedge.reading import stack_of_words, text_words, written_number
+from deepedge.values import check_reach, check_stack, is_integer, is_reach
 
 MOST_HEIGHT = 640
 
@@ -11,7 +13,7 @@ def run(stack, *parts, reach=16):
     """Return the stack after the instructions of the parts."""
     cells = list(stack)
     for index, item in enumerate(listed(parts)):
-        _step(cells, index, item, reach)
+        perform_item(cells, index, item, reach)
     return tuple(cells)
 
 
@@ -20,7 +22,7 @@ def trace(stack, *parts, reach=16):
     cells = list(stack)
     yield tuple(cells)
     for index, item in enumerate(listed(parts)):
-        _step(cells, index, item, reach)
+        perform_item(cells, index, item, reach)
         yield tuple(cells)
 
 
@@ -40,34 +42,22 @@ def untouched(stack, *parts, reach=16):
     return lowest
 
 
-def _step(cells, index, item, reach):
+def perform_item(cells, index, item, reach):
     """Execute one item on the list of cells, or raise `Fault` and leave the list as it is."""
     if not is_instruction(item, reach=reach) or cells_needed(item) > len(cells):
         raise Fault(index, item)
     perform(cells, item)
 
 
-def _stack_words(stack):
-    """Return the written form of the stack."""
-    return " ".join(stack) or "-"
-
-
 def _read_machine(text):
     """Return the stack and the reach that the text of a machine tells."""
-    if not isinstance(text, str):
-        raise ParseError(0, 0)
-    first, *rest = text.split(" ")
-    reach = written_reach(first[:-1])
-    if reach is None or not first.endswith(":"):
+    first, *rest = text_words(text)
+    reach = written_number(first[:-1])
+    if not first.endswith(":") or not is_reach(reach):
         raise ParseError(0, 0)
     if rest == []:
         raise ParseError(0, 1)
-    if rest == ["-"]:
-        return (), reach
-    index = wrong_cell(rest)
-    if index is not None:
-        raise ParseError(0, index + 1)
-    return tuple(rest), reach
+    return stack_of_words(rest, 0, 1), reach
 
 
 class Machine:
@@ -174,7 +164,7 @@ class Machine:
         return isinstance(other, Machine) and self._alike(other)
 
     def __str__(self):
-        return f"{self._reach}: {_stack_words(self._stack)}"
+        return f"{self._reach}: {stack_text(self._stack)}"
 
     def __repr__(self):
         return f"Machine({str(self)})"
@@ -247,7 +237,7 @@ class BoundedMachine(Machine):
         return isinstance(other, BoundedMachine) and self._alike(other) and self._most == other._most
 
     def __str__(self):
-        return f"{self._reach}: {_stack_words(self._stack)}"
+        return f"{self._reach}: {stack_text(self._stack)}"
 
     def __repr__(self):
         return f"BoundedMachine({str(self)})"

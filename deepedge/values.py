@@ -38,14 +38,6 @@ def wrong_cell(things):
     return None
 
 
-def written_reach(word):
-    """Return the reach that the word writes in decimal digits, or None."""
-    for reach in range(LEAST_REACH, MOST_REACH + 1):
-        if word == str(reach):
-            return reach
-    return None
-
-
 def check_stack(thing):
     """Raise `InvalidStack` if the thing, any value, is not a stack."""
     if not isinstance(thing, tuple):

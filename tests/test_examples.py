@@ -234,13 +234,81 @@ raises NoMember(27)
 >>> rows = (("missing", 1, "b"), ("missing", 0, "b"))
 >>> check_barred((("a", "b"), ("a", "c")), ("b",), rows, reach=2)
 raises InvalidCertificate('missing')
+
+>>> from deepedge.joins import Join
+>>> join = Join(("a", "b"), ("b", "a"), wanted=("a",), reach=2)
+>>> index = join.add(("c",))
+>>> barred = join.rows
+>>> join.undo()
+>>> [index, barred, len(join), "a" in join.layout]
+[2, (('missing', 2, 'a'),), 2, True]
+
+>>> from deepedge.joins import Join
+>>> str(Join(("a", "b"), wanted=("b", "a"), reach=3))
+'reach 3\nwanted a b\nstack a b'
+
+>>> from deepedge.joins import Join
+>>> Join.read("reach 3\nwanted b a\nstack -")
+raises ParseError(line=1, word=2)
+
+>>> from deepedge.joins import Loop
+>>> loop = Loop(("a",), ("b", "a"), wanted=("a",), reach=2, uses=2)
+>>> [len(set(loop.layout[-3:])), len(list(loop.shuffles()))]
+[1, 2]
+
+>>> from deepedge.steps import live_values
+>>> live_values((("add", ("a", "b"), "c"), ("mul", ("c", "a"), "d")), ("d",))
+[('a',), ()]
+
+>>> from deepedge.assembling import assemble
+>>> from deepedge.running import execute
+>>> steps = (("max", ("a", "b"), "c"), ("pow", ("c", "b"), "d"))
+>>> code = assemble(("a", "b"), steps, target=("d",), reach=2)
+>>> execute(code, (3, 2), reach=2, max=max, pow=pow)
+(9,)
+
+>>> from deepedge.assembling import assemble
+>>> assemble(("a", "b", "c"), (("neg", ("a",), "d"),), target=("b", "c", "d"), reach=2)
+raises Overloaded(step=0)
+
+>>> from deepedge.running import execute
+>>> execute((("call", "neg", 1),), (5,))
+raises UnknownOperation(name='neg')
+
+>>> from deepedge.formatting import card_text, code_text, shuffle_text, stack_text
+>>> [stack_text(("a", "b")), shuffle_text((("dup", 3), ("pop",))), card_text((1, ())), stack_text(())]
+['a b', 'dup3 pop', '1: -', '-']
+
+>>> from deepedge.formatting import certificate_text, code_text
+>>> certificate_text((2, ("a", "b", "c"), "ground", 1))
+'floor 2, witnesses a b c: ground 1'
+
+>>> from deepedge.formatting import code_text
+>>> code_text((("swap", 1), ("call", "max", 2), ("call", "neg", 1), ("pop",)))
+'swap1 max/2\nneg/1\npop'
+
+>>> from deepedge.parsing import parse_card, parse_code, parse_shuffle
+>>> [parse_shuffle("dup2 pop"), parse_card("2: 2 1"), parse_code("pop neg/1\nswap1")]
+[(('dup', 2), ('pop',)), (2, (2, 1)), (('pop',), ('call', 'neg', 1), ('swap', 1))]
+
+>>> from deepedge.parsing import parse_stack
+>>> parse_stack("a  b")
+raises ParseError(0, 1)
+
+>>> from deepedge.parsing import parse_code
+>>> parse_code("max/2\npop dup0")
+raises ParseError(1, 1)
+
+>>> from deepedge.parsing import parse_code
+>>> parse_code("pop\nneg/1")
+raises ParseError(0, 1)
 """
 
 
 class ExampleTest(unittest.TestCase):
     def test_examples(self):
         sessions = SESSIONS.strip().split("\n\n")
-        self.assertEqual(len(sessions), 54)
+        self.assertEqual(len(sessions), 69)
         for session in sessions:
             with self.subTest(session):
                 self.check(session)

@@ -53,24 +53,48 @@ FUNCTIONS = {
     },
     "layouts": {"layout_for": "(*stacks, wanted=(), reach=16)"},
     "layoutcheck": {"check_barred": "(stacks, wanted, value, *, reach=16)"},
+    "steps": {
+        "is_step": "(thing)", "is_call": "(thing)", "is_code": "(thing, *, reach=40)",
+        "live_values": "(steps, target=())",
+    },
+    "assembling": {"assemble": "(start, steps, *, target=(), reach=16)"},
+    "running": {"execute": "(code, stack, *, reach=16, **operations)"},
+    "formatting": {
+        "stack_text": "(stack)", "shuffle_text": "(instructions)", "card_text": "(card)", "code_text": "(code)",
+        "certificate_text": "(certificate)",
+    },
+    "parsing": {"parse_stack": "(text)", "parse_shuffle": "(text)", "parse_card": "(text)", "parse_code": "(text)"},
 }
-METHODS = {
-    "Machine": {
+# The file of each class, its methods and the properties that it has itself, with True where one can be assigned.
+CLASSES = {
+    "Machine": ("machine", {
         "__init__": "(self, stack=(), *, reach=16)", "change": "(self, **settings)", "do": "(self, *parts)",
         "undo": "(self, count=1)", "trial": "(self, deed)", "twin": "(self)", "__len__": "(self)",
         "__eq__": "(self, other)", "__str__": "(self)", "__repr__": "(self)",
-    },
-    "BoundedMachine": {
+    }, {"stack": False, "height": False, "steps_done": False, "reach": True}),
+    "BoundedMachine": ("machine", {
         "__init__": "(self, stack=(), *, reach=16, most=40)", "change": "(self, **settings)", "do": "(self, *parts)",
         "trial": "(self, deed)", "twin": "(self)", "__eq__": "(self, other)", "__str__": "(self)",
         "__repr__": "(self)",
-    },
+    }, {"most": True}),
+    "Join": ("joins", {
+        "__init__": "(self, *stacks, wanted=(), reach=16)", "change": "(self, **settings)", "add": "(self, stack)",
+        "remove": "(self, index)", "shuffles": "(self)", "undo": "(self)", "__len__": "(self)",
+        "__eq__": "(self, other)", "__str__": "(self)", "__repr__": "(self)",
+    }, {"stacks": False, "layout": False, "rows": False, "wanted": True, "reach": True}),
+    "Loop": ("joins", {
+        "__init__": "(self, *stacks, wanted=(), reach=16, uses=1)", "back_shuffle": "(self)", "__eq__": "(self, other)",
+        "__str__": "(self)", "__repr__": "(self)",
+    }, {"uses": False}),
 }
 GENERATORS = {("machine", "trace"), ("building", "building_steps"), ("targets", "targets")}
+GENERATOR_METHODS = {("Join", "shuffles")}
 
 
 STACK, TARGET = ("a", "b", "c", "d"), ("a", "c", "b", "d")
 ROWS = (("edge", 0, ("b", "c", "d")),)
+STEPS = (("f", ("d", "a"), "e"), ("g", ("b",), "x"))
+CODE = (("dup", 3), ("call", "max", 2), ("call", "f", 2))
 # Arguments by the names of the interface; those that can be passed by position come first, in order.
 NAMED = [
     ("touched", "descend", {"stack": STACK, "height": 2}, {"reach": 2}),
@@ -92,6 +116,21 @@ NAMED = [
     ("losses", "first_lost", {"stack": STACK, "height": 4}, {"reach": 2}),
     ("losses", "pop_loses", {"stack": STACK}, {"reach": 2}),
     ("layoutcheck", "check_barred", {"stacks": (STACK, TARGET[1:]), "wanted": ("d", "b", "c"), "value": ROWS}, {"reach": 2}),
+    ("steps", "is_step", {"thing": STEPS[0]}, {}),
+    ("steps", "is_call", {"thing": CODE[1]}, {}),
+    ("steps", "is_code", {"thing": CODE}, {"reach": 2}),
+    ("steps", "live_values", {"steps": STEPS, "target": ("c", "e")}, {}),
+    ("assembling", "assemble", {"start": STACK, "steps": STEPS}, {"target": ("e", "c"), "reach": 4}),
+    ("running", "execute", {"code": CODE, "stack": (7, 5, 6)}, {"reach": 3, "max": max, "f": lambda *told: len(told)}),
+    ("formatting", "stack_text", {"stack": STACK}, {}),
+    ("formatting", "shuffle_text", {"instructions": CODE[:1]}, {}),
+    ("formatting", "card_text", {"card": (3, (2, 1))}, {}),
+    ("formatting", "code_text", {"code": CODE}, {}),
+    ("formatting", "certificate_text", {"certificate": (0, (), "edge", ("b", "c", "d"))}, {}),
+    ("parsing", "parse_stack", {"text": "a b"}, {}),
+    ("parsing", "parse_shuffle", {"text": "pop dup2"}, {}),
+    ("parsing", "parse_card", {"text": "3: 2 1"}, {}),
+    ("parsing", "parse_code", {"text": "pop max/2\nf/0"}, {}),
 ]
 
 
@@ -120,22 +159,23 @@ class InterfaceTest(unittest.TestCase):
             self.assertEqual(told[1:], told[:1] * 3, name)
 
     def test_methods(self):
-        for kind, methods in METHODS.items():
-            owner = getattr(module("machine"), kind)
-            self.assertEqual(owner.__module__, "deepedge.machine")
+        for kind, (file, methods, _) in CLASSES.items():
+            owner = getattr(module(file), kind)
+            self.assertEqual(owner.__module__, "deepedge." + file)
             for name, signature in methods.items():
-                self.assertEqual(str(inspect.signature(vars(owner)[name])), signature, (kind, name))
-            self.assertIsInstance(vars(owner)["read"], classmethod)
-            self.assertEqual(str(inspect.signature(owner.read)), "(text)")
+                method = vars(owner)[name]
+                self.assertEqual(str(inspect.signature(method)), signature, (kind, name))
+                self.assertEqual(inspect.isgeneratorfunction(method), (kind, name) in GENERATOR_METHODS)
+            if kind != "Desk":
+                self.assertIsInstance(vars(owner)["read"], classmethod)
+                self.assertEqual(str(inspect.signature(owner.read)), "(text)")
 
     def test_properties(self):
-        machine = module("machine")
-        for kind, name, assigned in [
-            (machine.Machine, "stack", False), (machine.Machine, "height", False), (machine.Machine, "steps_done", False),
-            (machine.Machine, "reach", True), (machine.BoundedMachine, "most", True),
-        ]:
-            self.assertIsInstance(vars(kind)[name], property)
-            self.assertEqual(vars(kind)[name].fset is not None, assigned)
+        for kind, (file, _, properties) in CLASSES.items():
+            for name, assigned in properties.items():
+                prop = vars(getattr(module(file), kind))[name]
+                self.assertIsInstance(prop, property)
+                self.assertEqual(prop.fset is not None, assigned, (kind, name))
 
 
 if __name__ == "__main__":

@@ -231,6 +231,8 @@ class NameTest(unittest.TestCase):
         for tree in TREES.values():
             own |= {n.name for n in ast.walk(tree) if isinstance(n, ast.FunctionDef)}
             own |= {n.attr for n in ast.walk(tree) if isinstance(n, ast.Attribute) and isinstance(n.ctx, ast.Store)}
+            bodies = [n.body for n in ast.walk(tree) if isinstance(n, ast.ClassDef)]
+            own |= {n.targets[0].id for body in bodies for n in body if isinstance(n, ast.Assign)}
         for stem, tree in TREES.items():
             for node in ast.walk(tree):
                 if isinstance(node, ast.Attribute):
