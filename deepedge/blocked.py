@@ -8,14 +8,27 @@ REASONS = ("ground", "missing", "edge")
 
 def check_blocked(stack, target, value, *, reach=16):
     """Return True if the value, any value, is a blocked certificate."""
+    return check_beside(stack, target, (), value, reach)
+
+
+def check_beside(stack, target, constants, value, reach):
+    """Return what `check_blocked` returns, for a machine that can also push the constants."""
     if not _has_shape(value):
         raise InvalidCertificate("shape")
     floor, witnesses, reason, detail = value
     if not 0 <= floor < len(target):
         raise InvalidCertificate("floor")
-    if not _are_witnesses(witnesses, target, floor, reach):
+    # What can be pushed proves nothing.
+    cells = [cell for cell in target[floor:] if cell not in constants]
+    if not _are_witnesses(witnesses, cells, floor, reach):
         raise InvalidCertificate("witnesses")
-    if not _holds(stack, target, floor, reason, detail, reach):
+    if reason == "ground":
+        holds = _is_ground(stack, target, floor, detail)
+    elif reason == "missing":
+        holds = detail in cells and detail not in stack[floor:]
+    else:
+        holds = _is_edge(stack, target, floor) and _are_values(detail, cells, reach + 1) and stack[floor] not in detail
+    if not holds:
         raise InvalidCertificate(reason)
     return True
 
@@ -27,11 +40,11 @@ def _has_shape(value):
     return is_integer(value[0]) and isinstance(value[1], tuple) and value[2] in REASONS
 
 
-def _are_witnesses(witnesses, target, floor, reach):
-    """Tell whether the tuple proves that no floor is less than this one."""
+def _are_witnesses(witnesses, cells, floor, reach):
+    """Tell whether the tuple proves that no floor is less than this one, from which on these cells stand."""
     if floor == 0:
         return witnesses == ()
-    return _are_values(witnesses, target[floor:], reach + 1)
+    return _are_values(witnesses, cells, reach + 1)
 
 
 def _are_values(thing, cells, count):
@@ -44,12 +57,11 @@ def _are_values(thing, cells, count):
     return all([left < right for left, right in zip(thing, thing[1:])])
 
 
-def _holds(stack, target, floor, reason, detail, reach):
-    """Tell whether the reason with this detail proves that no floor is this one or greater."""
-    if reason == "ground":
-        return is_integer(detail) and 0 <= detail < floor and stack[detail:detail + 1] != target[detail:detail + 1]
-    if reason == "missing":
-        return detail in target[floor:] and detail not in stack[floor:]
-    if floor >= len(stack) or stack[floor] == target[floor]:
-        return False
-    return _are_values(detail, target[floor:], reach + 1) and stack[floor] not in detail
+def _is_ground(stack, target, floor, detail):
+    """Tell whether the detail is the index of a cell below the floor in which the target differs."""
+    return is_integer(detail) and 0 <= detail < floor and stack[detail:detail + 1] != target[detail:detail + 1]
+
+
+def _is_edge(stack, target, floor):
+    """Tell whether the stack has another value than the target in the cell of the floor."""
+    return floor < len(stack) and stack[floor] != target[floor]

@@ -11,9 +11,15 @@ def common_prefix(one, other):
 
 def depth_of(target, *, reach=16):
     """Return the depth of the target."""
+    return depth_beside(target, (), reach)
+
+
+def depth_beside(target, constants, reach):
+    """Return the depth of the target for a machine that can also push the constants."""
     above = {}
     for index in reversed(range(len(target))):
-        above[target[index]] = True
+        if target[index] not in constants:
+            above[target[index]] = True
         if len(above) > reach:
             return index
     return 0

@@ -70,9 +70,11 @@ def height_change(instruction):
 
 
 def perform(cells, instruction):
-    """Execute the instruction on a list of cells, which has as many as it needs."""
+    """Execute the instruction, or the push, on a list of cells, which has as many as it needs."""
     if instruction[0] == "pop":
         cells.pop()
+    elif instruction[0] == "push":
+        cells.append(instruction[1])
     elif instruction[0] == "dup":
         cells.append(cells[-instruction[1]])
     else:

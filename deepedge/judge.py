@@ -1,6 +1,6 @@
 """Whether a stack reaches a target, and why not."""
 
-from deepedge.floors import common_prefix, profile
+from deepedge.floors import common_prefix, depth_beside
 
 
 def reaches(stack, target, *, reach=16):
@@ -15,8 +15,14 @@ def equivalent(one, other, *, reach=16):
 
 def decide(stack, target, *, reach=16):
     """Return `("reached", floor)` or `("blocked", certificate)`."""
-    depth, ground, needed = profile(target, reach=reach)
-    reason, detail = _obstacle(stack, ground, needed, reach)
+    return decide_beside(stack, target, (), reach)
+
+
+def decide_beside(stack, target, constants, reach):
+    """Return what `decide` returns, for a machine that can also push the constants."""
+    depth = depth_beside(target, constants, reach)
+    needed = tuple(sorted(set(target[depth:]) - set(constants)))
+    reason, detail = _obstacle(stack, target[:depth], needed, reach)
     if reason is None:
         return ("reached", depth)
     # The depth leaves at most one value more than the reach: these are all the witnesses that there are.

@@ -3,9 +3,9 @@
 from deepedge.instructions import perform
 
 
-def way(stack, target, floor):
-    """Return the list of instructions that turn the stack into the target above a floor of the two."""
-    needed = sorted(set(target[floor:]))
+def way(stack, target, floor, constants=()):
+    """Return the list of instructions, and pushes of the constants, that make the target above a floor of the two."""
+    needed = sorted(set(target[floor:]) - set(constants))
     deeds, cells = descent(stack, floor, floor + len(needed), needed)
     # The way up begins with the value at the edge.
     return deeds + ascent(cells[floor:], target[floor:])
@@ -46,13 +46,11 @@ def _nearest_spare(cells, spare):
 def ascent(loose, rest):
     """Return the instructions that turn the loose cells, the uppermost ones, into the rest of a target.
 
-    The loose cells hold each value of the rest once, in any order.
+    The loose cells hold each value of the rest once, in any order, but for those that are pushed.
     """
     deeds = []
-    left = {value: rest.count(value) for value in loose}
-    for value in rest:
-        left[value] -= 1
-        added, loose = _settle(loose, value, left[value] > 0)
+    for index, value in enumerate(rest):
+        added, loose = _settle(loose, value, value in rest[index + 1:])
         deeds.extend(added)
     return deeds
 
@@ -60,15 +58,16 @@ def ascent(loose, rest):
 def _settle(loose, value, again):
     """Return the instructions that bring the value to the lowest loose cell, and the cells that are loose then.
 
-    If the value is needed again, a copy of it stays loose.
+    If the value is needed again, a copy of it stays loose. A value that no loose cell holds is pushed.
     """
-    above = len(loose) - 1 - loose.index(value)
-    deeds = []
-    if again:
+    cells, deeds = list(loose), []
+    above = cells[::-1].index(value) if value in cells else None
+    if above is None:
+        deeds.append(("push", value))
+    elif again:
         deeds.append(("dup", above + 1))
-    elif 0 < above < len(loose) - 1:
+    elif 0 < above < len(cells) - 1:
         deeds.append(("swap", above))
-    cells = list(loose)
     for deed in deeds:
         perform(cells, deed)
     if cells[0] != value:

@@ -302,13 +302,74 @@ raises ParseError(1, 1)
 >>> from deepedge.parsing import parse_code
 >>> parse_code("pop\nneg/1")
 raises ParseError(0, 1)
+
+>>> from deepedge.problem import Problem
+>>> problem = Problem(("a", "b", "c", "d"), ("b", "c", "d"), reach=2)
+>>> wider = Problem(problem.start, problem.goal, reach=3)
+>>> [problem.reachable, problem.least, wider.answer, str(wider.swapped())]
+[False, 3, ('reached', 0), 'reach 3\nstart b c d\ngoal a b c d']
+
+>>> from deepedge.problem import Problem
+>>> Problem.read("reach 2\nstart a B\ngoal -")
+raises ParseError(1, 2)
+
+>>> from deepedge.desk import Desk
+>>> desk = Desk("reach 2\nstart a b c d\ngoal b c d")
+>>> told = [desk.execute("answer"), desk.execute("goal b c c"), desk.execute("answer")]
+>>> told + [desk.execute("count 3"), desk.execute("save x"), desk.execute("run pop"), desk.execute("undo")]
+['blocked floor 0, witnesses -: edge b c d', 'ok', 'reached 0', '58', 'ok', 'a b c', 'run']
+
+>>> from deepedge.desk import Desk
+>>> Desk().execute("start a 1")
+raises ParseError(0, 2)
+
+>>> from deepedge.desk import Desk
+>>> Desk().execute("load x")
+raises NoName('x')
+
+>>> from deepedge.literals import decide_with, reaches_with, run_with
+>>> stack = ("a", "b", "c", "d")
+>>> [reaches_with(stack, ("b", "c", "d"), reach=2), reaches_with(stack, ("b", "c", "d"), constants=("d",), reach=2)]
+[False, True]
+
+>>> from deepedge.literals import decide_with, run_with
+>>> [decide_with(("a",), ("b", "k"), constants=("k",)), run_with(("a",), ("push", "k"), ("swap", 1), constants=("k",))]
+[('blocked', (0, (), 'missing', 'b')), ('k', 'a')]
+
+>>> from deepedge.literals import run_with
+>>> run_with(("a",), ("push", "b"), constants=("k",))
+raises Fault(0, ('push', 'b'))
+
+>>> from deepedge.literalcheck import check_with
+>>> check_with(("a",), ("b", "k"), (0, (), "missing", "k"), constants=("k",))
+raises InvalidCertificate('missing')
+
+>>> from deepedge.literalbuild import build_with
+>>> from deepedge.literals import run_with
+>>> steps = build_with(("a", "b", "c", "d"), ("b", "d", "c", "d"), constants=("d",), reach=2)
+>>> run_with(("a", "b", "c", "d"), steps, constants=("d",), reach=2)
+('b', 'd', 'c', 'd')
+
+>>> from deepedge.permuting import cycles_of, least_swaps, most_swaps
+>>> start, goal = ("a", "b", "c", "d"), ("b", "a", "d", "c")
+>>> [cycles_of(start, goal), least_swaps(start, goal)[0], most_swaps(4), cycles_of(start, goal, reach=2)]
+[((0, 1), (2, 3)), 4, 4, None]
+
+>>> from deepedge.permuting import check_swaps
+>>> start, goal = ("a", "b", "c", "d"), ("b", "a", "d", "c")
+>>> [check_swaps(start, goal, (4, ((0, 1), (2, 3)))), check_swaps(start, goal, (1, ((2, 3),)))]
+[True, True]
+
+>>> from deepedge.permuting import check_swaps
+>>> check_swaps(("a", "b", "c", "d"), ("b", "a", "d", "c"), (2, ((2, 3),)))
+raises InvalidCertificate('count')
 """
 
 
 class ExampleTest(unittest.TestCase):
     def test_examples(self):
         sessions = SESSIONS.strip().split("\n\n")
-        self.assertEqual(len(sessions), 69)
+        self.assertEqual(len(sessions), 82)
         for session in sessions:
             with self.subTest(session):
                 self.check(session)

@@ -64,6 +64,17 @@ FUNCTIONS = {
         "certificate_text": "(certificate)",
     },
     "parsing": {"parse_stack": "(text)", "parse_shuffle": "(text)", "parse_card": "(text)", "parse_code": "(text)"},
+    "literals": {
+        "run_with": "(stack, *parts, constants=(), reach=16)",
+        "reaches_with": "(stack, target, *, constants=(), reach=16)",
+        "decide_with": "(stack, target, *, constants=(), reach=16)",
+    },
+    "literalcheck": {"check_with": "(stack, target, value, *, constants=(), reach=16)"},
+    "literalbuild": {"build_with": "(stack, target, *, constants=(), reach=16)"},
+    "permuting": {
+        "cycles_of": "(stack, target, *, reach=16)", "least_swaps": "(stack, target, *, reach=16)",
+        "most_swaps": "(cells)", "check_swaps": "(stack, target, value, *, reach=16)",
+    },
 }
 # The file of each class, its methods and the properties that it has itself, with True where one can be assigned.
 CLASSES = {
@@ -86,6 +97,15 @@ CLASSES = {
         "__init__": "(self, *stacks, wanted=(), reach=16, uses=1)", "back_shuffle": "(self)", "__eq__": "(self, other)",
         "__str__": "(self)", "__repr__": "(self)",
     }, {"uses": False}),
+    "Problem": ("problem", {
+        "__init__": "(self, start=(), goal=(), *, reach=16)", "change": "(self, **settings)", "shuffle": "(self)",
+        "evidence": "(self)", "swapped": "(self)", "__eq__": "(self, other)", "__str__": "(self)",
+        "__repr__": "(self)",
+    }, {
+        "start": True, "goal": True, "reach": True, "answer": False, "reachable": False, "goal_depth": False,
+        "least": False,
+    }),
+    "Desk": ("desk", {"__init__": "(self, text='')", "execute": "(self, command)"}, {}),
 }
 GENERATORS = {("machine", "trace"), ("building", "building_steps"), ("targets", "targets")}
 GENERATOR_METHODS = {("Join", "shuffles")}
@@ -95,6 +115,7 @@ STACK, TARGET = ("a", "b", "c", "d"), ("a", "c", "b", "d")
 ROWS = (("edge", 0, ("b", "c", "d")),)
 STEPS = (("f", ("d", "a"), "e"), ("g", ("b",), "x"))
 CODE = (("dup", 3), ("call", "max", 2), ("call", "f", 2))
+MISSING = (0, (), "missing", "x")
 # Arguments by the names of the interface; those that can be passed by position come first, in order.
 NAMED = [
     ("touched", "descend", {"stack": STACK, "height": 2}, {"reach": 2}),
@@ -131,6 +152,45 @@ NAMED = [
     ("parsing", "parse_shuffle", {"text": "pop dup2"}, {}),
     ("parsing", "parse_card", {"text": "3: 2 1"}, {}),
     ("parsing", "parse_code", {"text": "pop max/2\nf/0"}, {}),
+    ("literals", "run_with", {"stack": STACK}, {"constants": ("k",), "reach": 2}),
+    ("literals", "reaches_with", {"stack": STACK, "target": TARGET[1:]}, {"constants": ("d",), "reach": 2}),
+    ("literals", "decide_with", {"stack": STACK, "target": TARGET[1:]}, {"constants": ("d",), "reach": 2}),
+    ("literalcheck", "check_with", {"stack": STACK, "target": ("x", "k"), "value": MISSING}, {"constants": ("k",), "reach": 2}),
+    ("literalbuild", "build_with", {"stack": STACK, "target": TARGET[1:]}, {"constants": ("d",), "reach": 2}),
+    ("permuting", "cycles_of", {"stack": STACK, "target": TARGET}, {"reach": 2}),
+    ("permuting", "least_swaps", {"stack": STACK, "target": TARGET}, {"reach": 3}),
+    ("permuting", "most_swaps", {"cells": 5}, {}),
+    ("permuting", "check_swaps", {"stack": STACK, "target": TARGET, "value": (3, ((1, 2),))}, {"reach": 2}),
+    # What stage 1 and 2 listed.
+    ("values", "is_value", {"thing": "a"}, {}),
+    ("values", "is_stack", {"thing": STACK}, {}),
+    ("values", "is_reach", {"thing": 2}, {}),
+    ("instructions", "is_instruction", {"thing": ("dup", 3)}, {"reach": 2}),
+    ("instructions", "is_shuffle", {"thing": (("dup", 3),)}, {"reach": 3}),
+    ("instructions", "cells_needed", {"instruction": ("swap", 3)}, {}),
+    ("instructions", "height_change", {"instruction": ("pop",)}, {}),
+    ("machine", "run", {"stack": STACK}, {"reach": 2}),
+    ("machine", "trace", {"stack": STACK}, {"reach": 2}),
+    ("machine", "lowest_height", {"stack": STACK}, {"reach": 2}),
+    ("machine", "untouched", {"stack": STACK}, {"reach": 2}),
+    ("machine", "Machine", {"stack": STACK}, {"reach": 3}),
+    ("machine", "BoundedMachine", {"stack": STACK}, {"reach": 3, "most": 5}),
+    ("cards", "is_card", {"thing": (1, (1,))}, {}),
+    ("cards", "apply_card", {"stack": STACK, "card": (2, (2, 1, 2))}, {}),
+    ("effects", "same_effect", {"one": (("swap", 1),), "other": ()}, {}),
+    ("effects", "separating_stack", {"one": (("swap", 1),), "other": ()}, {}),
+    ("realize", "realize", {"card": (2, (2, 2, 1))}, {}),
+    ("floors", "common_prefix", {"one": STACK, "other": TARGET}, {}),
+    ("floors", "depth_of", {"target": TARGET}, {"reach": 2}),
+    ("floors", "floors", {"stack": STACK, "target": STACK}, {"reach": 2}),
+    ("floors", "profile", {"target": TARGET}, {"reach": 2}),
+    ("judge", "reaches", {"stack": STACK, "target": TARGET[1:]}, {"reach": 3}),
+    ("judge", "equivalent", {"one": STACK, "other": TARGET}, {"reach": 2}),
+    ("judge", "decide", {"stack": STACK, "target": TARGET[1:]}, {"reach": 2}),
+    ("blocked", "check_blocked", {"stack": STACK, "target": ("b", "x"), "value": MISSING}, {"reach": 2}),
+    ("building", "build", {"stack": STACK, "target": STACK[:1] * 3}, {"floor": 0, "reach": 2}),
+    ("building", "building_steps", {"stack": STACK, "target": STACK[:1] * 3}, {"floor": 0, "reach": 2}),
+    ("problem", "Problem", {"start": STACK, "goal": TARGET}, {"reach": 3}),
 ]
 
 

@@ -101,9 +101,12 @@ class ModuleTest(unittest.TestCase):
     def test_module_level(self):
         for stem, tree in TREES.items():
             begun = False
+            defined = []
             for node in tree.body:
+                if isinstance(node, ast.FunctionDef):
+                    defined.append(node.name)
                 if isinstance(node, ast.Assign):
-                    ast.literal_eval(node.value)
+                    self.check_plain(node.value, defined)
                     self.assertIsInstance(node.targets[0], ast.Name, stem)
                     self.assertEqual(len(node.targets), 1)
                 elif isinstance(node, ast.Expr):
@@ -111,6 +114,18 @@ class ModuleTest(unittest.TestCase):
                 self.assertIsInstance(node, (ast.Expr, ast.ImportFrom, ast.FunctionDef, ast.ClassDef, ast.Assign), stem)
                 begun = begun or isinstance(node, (ast.FunctionDef, ast.ClassDef, ast.Assign))
                 self.assertFalse(begun and isinstance(node, ast.ImportFrom), stem)
+
+    def check_plain(self, value, defined):
+        """Check that the value is plain; a dict may also hold functions that are defined above it."""
+        if isinstance(value, ast.Dict):
+            for key, item in zip(value.keys, value.values):
+                ast.literal_eval(key)
+                if isinstance(item, ast.Name):
+                    self.assertIn(item.id, defined)
+                else:
+                    ast.literal_eval(item)
+        else:
+            ast.literal_eval(value)
 
     def test_names_are_bound_once(self):
         for stem, tree in TREES.items():
