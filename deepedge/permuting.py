@@ -63,9 +63,9 @@ def check_swaps(stack, target, value, *, reach=16):
 
 def _are_pair(stack, target, low):
     """Tell whether the two are a permutation pair, whose cells can be moved from this index on."""
-    if len(stack) != len(target) or stack[:low] != target[:low]:
+    if stack[:low] != target[:low] or sorted(stack[low:]) != sorted(target[low:]):
         return False
-    return len(set(stack[low:])) == len(stack) - low and sorted(stack[low:]) == sorted(target[low:])
+    return len(set(stack[low:])) == len(stack) - low
 
 
 def _sort_top(cells, target):

@@ -12,6 +12,7 @@ from deepedge.joins import Join, Loop
 from deepedge.layoutcheck import check_barred
 from deepedge.layouts import layout_for
 from deepedge.machine import run
+from deepedge.values import is_stack
 
 NAMES = ("a", "b", "c", "d")
 
@@ -43,6 +44,7 @@ class JoinTestCase(unittest.TestCase):
     def check_layout(self, join, uses):
         self.assertIsNone(join.rows)
         layout = join.layout
+        self.assertIs(is_stack(layout[:len(layout) - uses]), True)
         self.assertLessEqual(set(join.wanted), set(layout))
         if uses:
             self.assertEqual(layout[len(layout) - uses:], layout[len(layout) - uses - 1:-uses] * uses)
@@ -390,6 +392,9 @@ class LayoutTest(JoinTestCase):
         loop = Loop(stack, stack, wanted=stack[28:], reach=2, uses=8)
         self.check(loop, (stack, stack), stack[28:], 2, 8)
         self.assertEqual(len(loop.layout), 48)
+        join = Join(stack, stack, wanted=stack[28:], reach=2)
+        self.check(join, (stack, stack), stack[28:], 2)
+        self.assertEqual(len(join.layout), 40)
 
     def test_shuffles_are_yielded(self):
         for join in both(NAMES, NAMES[::-1]):
